@@ -1,0 +1,1 @@
+"""Figures on squared paper drawn in the fewest lines that never cross."""

@@ -2,14 +2,21 @@
 
 import unittest
 
+from nevercrossed.cells import border
 from nevercrossed.errors import InvalidPoint
 from nevercrossed.figures import Figure
+from nevercrossed.plans import Plan
+from nevercrossed.regions import Regions
 
 
-def any_values():
-    """Return values of all the kinds that a parameter for any value accepts; none is a point, a direction, a list of edges."""
+def any_values(others=True):
+    """Return values of all the kinds that a parameter for any value accepts.
+
+    None of them is a point, a direction, a color, a list of edges or a text of a walk. The tuple of two points is a
+    walk and a list of cells, as is the list of a point; they are left out if `others` is False.
+    """
     edge = ((0, 0), (1, 0))
-    return [
+    values = [
         None, True, False,
         0, 1, 2, 30, 31, -1, 10 ** 30 - 1, -(10 ** 30 - 1),
         "", "a", "R", "ru", "ruld", "x" * 500, "two\nrows", "(0, 0)", "0,0",
@@ -17,8 +24,10 @@ def any_values():
         (None,), ("r",), (0,), (0, 0, 0), (True, 0), (0, False), (None, 0), ("0", "0"), ([], {}), ([0], [0]),
         ((((1,),),),), edge, (edge,) * 3 + (0,),
         {}, {"r": 1}, {0: 0, 1: 0}, {(0, 0): (1, 0)}, {edge: True}, {None: {1: [2, (3,)]}},
-        Figure(), Figure([edge]), InvalidPoint((0, 0)),
+        Figure(), Figure([edge]), InvalidPoint((0, 0)), Plan(Figure(), {}), Plan(Figure([edge]), {}),
+        Regions(border([(0, 0)])),
     ]
+    return values if others else [value for value in values if value not in (edge, [(0, 0)])]
 
 
 class Case(unittest.TestCase):

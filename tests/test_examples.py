@@ -3,8 +3,7 @@
 import doctest
 import unittest
 
-from nevercrossed.figures import Figure
-from nevercrossed.words import beside, direction_between, edge_between, opposite
+from nevercrossed import cells, counting, fewest, figures, plans, regions, rounds, texts, words
 
 EXAMPLES = {
     "[12]": r'''
@@ -17,11 +16,46 @@ EXAMPLES = {
     >>> [len(both), both.directions((1, 1)), both.directions((2, 1)), len(both ^ square), both.odd_points()]
     [8, 'ruld', 'ul', 4, ()]
 ''',
+    "[33]": r'''
+    >>> both = read_picture("  +-+\n  | |\n+-+-+\n| |\n+-+")
+    >>> [len(both), both.points()[3], walk_text(((0, 0), (1, 0), (1, 1))), read_walk("2,1 ulld")]
+    [8, (1, 1), '0,0 ru', ((2, 1), (2, 2), (1, 2), (0, 2), (0, 1))]
+''',
+    "[45]": r'''
+    >>> both = read_picture("  +-+\n  | |\n+-+-+\n| |\n+-+")
+    >>> one, two = Plan(both, {(1, 1): "rd"}), Plan(both, {(1, 1): "ru"})
+    >>> [len(one.lines()), two.lines()[0], one.turned([(1, 1)]) == two, one.partner((1, 1), "l")]
+    [1, ((0, 0), (0, 1), (1, 1), (1, 0), (0, 0)), True, 'u']
+''',
+    "[53]": r'''
+    >>> house = read_picture("+-+\n| |\n+-+\n| |\n+ +")
+    >>> [len(house), fewest(house), len(best_plan(house).lines()), division_fault(house, [((0, 0), (0, 1), (0, 2))])]
+    [6, 2, 2, 1]
+''',
+    "[62]": r'''
+    >>> [len(border([(0, 0), (1, 1)])), dark_cells(read_picture("+-+-+\n|   |\n+-+-+"))]
+    [8, ((0, 0), (1, 0))]
+''',
+    "[73]": r'''
+    >>> regions = Regions(border([(0, 0), (1, 1)]))
+    >>> [regions.dark, len(regions.light), regions.between("light", (1, 1)), regions.joining((1, 1))]
+    [(((0, 0),), ((1, 1),)), 1, (0, 0), 'rd']
+''',
+    "[83]": r'''
+    >>> two = Plan(border([(0, 0), (1, 1)]), {(1, 1): "ru"})
+    >>> [round_numbers(two), why_not(two), shows_not(two, ("dark", (0,), ((1, 1),))), mended(two)]
+    [(0, 1), ('light', (0,), ((1, 1),)), False, ((1, 1),)]
+''',
+    "[93]": r'''
+    >>> ring = border([(1, 0), (2, 1), (1, 2), (0, 1)])
+    >>> [count(ring), count(ring, color="light"), number_of(nth_plan(ring, 2)), counts_by_lines(ring) == {1: 4, 2: 7, 3: 4, 4: 1}]
+    [4, 4, 2, True]
+''',
 }
-NAMES = {
-    "Figure": Figure, "beside": beside, "direction_between": direction_between, "edge_between": edge_between,
-    "opposite": opposite,
-}
+# All names of the package, as if each example began by importing those that it needs.
+NAMES = {}
+for module in (words, figures, texts, plans, fewest, cells, regions, rounds, counting):
+    NAMES.update({name: thing for name, thing in vars(module).items() if not name.startswith("_")})
 
 
 class TestExamples(unittest.TestCase):

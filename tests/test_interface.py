@@ -6,7 +6,7 @@ import inspect
 import pathlib
 import unittest
 
-from nevercrossed import errors, figures, words
+from nevercrossed import cells, counting, errors, fewest, figures, plans, regions, rounds, texts, words
 
 PACKAGE = pathlib.Path(errors.__file__).parent
 
@@ -16,6 +16,19 @@ FUNCTIONS = {
         "beside": ["point", "direction"], "direction_between": ["point", "other"], "edge_between": ["point", "other"],
         "opposite": ["direction"],
     },
+    texts: {"picture": ["figure"], "read_picture": ["text"], "walk_text": ["walk"], "read_walk": ["text"]},
+    fewest: {
+        "pieces": ["figure"], "fewest": ["figure"], "best_plan": ["figure"], "division_fault": ["figure", "walks"],
+    },
+    cells: {"border": ["cells"], "dark_cells": ["figure"]},
+    rounds: {
+        "is_round": ["figure", "thing"], "round_numbers": ["plan"], "why_not": ["plan"],
+        "shows_not": ["plan", "thing"], "mended": ["plan"],
+    },
+    counting: {
+        "count": ["figure", "color"], "nth_plan": ["figure", "n"], "number_of": ["plan"],
+        "counts_by_lines": ["figure"],
+    },
 }
 # The operators are listed by their signs; here they have the names of their methods.
 METHODS = {
@@ -23,6 +36,15 @@ METHODS = {
         "__init__": ["edges"], "points": [], "odd_points": [], "directions": ["point"], "__len__": [],
         "__eq__": ["other"], "__contains__": ["edge"], "__or__": ["other"], "__and__": ["other"],
         "__sub__": ["other"], "__xor__": ["other"], "shifted": ["dx", "dy"], "turned": [], "mirrored": [],
+    },
+    plans.Plan: {
+        "__init__": ["figure", "turns"], "__getitem__": ["point"], "__contains__": ["point"], "__len__": [],
+        "__eq__": ["other"], "turns": [], "partner": ["point", "direction"], "turned": ["points"],
+        "ended": ["point", "direction"], "lines": [],
+    },
+    regions.Regions: {
+        "__init__": ["figure"], "find": ["cell"], "crossings": [], "between": ["color", "point"],
+        "joining": ["point"],
     },
     errors.NevercrossedError: {"__init__": ["value"]},
 }
@@ -76,7 +98,18 @@ class TestInterface(unittest.TestCase):
     def test_edges_are_empty_if_not_given(self):
         self.assertEqual(inspect.signature(figures.Figure).parameters["edges"].default, ())
 
+    def test_classes_are_defined_in_their_files(self):
+        for module, name in ((figures, "Figure"), (plans, "Plan"), (regions, "Regions")):
+            self.assertIn(name, defined_in(pathlib.Path(module.__file__)))
+
+    def test_the_color_is_passed_by_name(self):
+        color = inspect.signature(counting.count).parameters["color"]
+        self.assertEqual([color.kind, color.default], [inspect.Parameter.KEYWORD_ONLY, "dark"])
+
     def test_attributes_are_set_when_the_object_is_created(self):
+        square = cells.border([(0, 0)])
+        self.assertIn("figure", vars(plans.Plan(square, {})))
+        self.assertLessEqual({"dark", "light"}, set(vars(regions.Regions(square))))
         self.assertIn("edges", vars(figures.Figure()))
         self.assertIn("value", vars(errors.InvalidPoint(None)))
 
@@ -126,7 +159,8 @@ class TestFiles(unittest.TestCase):
             tree = tree_of(path)
             own = set(defined_in(path))
             for node in ast.walk(tree):
-                if isinstance(node, ast.Name) and hasattr(builtins, node.id):
+                # Python sets builtins._ when it shows a value.
+                if isinstance(node, ast.Name) and node.id != "_" and hasattr(builtins, node.id):
                     self.assertIn(node.id, BUILTINS)
                 if isinstance(node, (ast.FunctionDef, ast.ClassDef)):
                     self.assertNotIn(node.name, BARRED_WORDS)
@@ -151,10 +185,74 @@ class TestFiles(unittest.TestCase):
                         self.assertNotIsInstance(node.value, (float, complex))
                         self.assertNotIn("%", str(node.value))
 
-    def test_any_and_all_take_lists(self):
-        # Figure has an own ==, so a generator expression may not stand there.
+    def test_lists_in_the_place_of_generator_expressions(self):
+        # Figure has an own ==, so any, all, sorted and the like take lists.
         for path in package_files():
             for node in ast.walk(tree_of(path)):
-                if isinstance(node, ast.Call) and isinstance(node.func, ast.Name):
-                    if node.func.id in ("any", "all", "min", "max", "sum", "sorted"):
-                        self.assertNotIsInstance(node.args[0], ast.GeneratorExp, f"{path.name}:{node.lineno}")
+                self.assertNotIsInstance(node, ast.GeneratorExp, f"{path.name}:{getattr(node, 'lineno', None)}")
+
+    def test_no_name_means_two_things(self):
+        for path in package_files():
+            tree = tree_of(path)
+            taken = {name for name in dir(builtins) if name != "_"}
+            taken.update(alias.name for node in tree.body if isinstance(node, ast.ImportFrom) for alias in node.names)
+            taken.update(node.name for node in tree.body if isinstance(node, ast.ClassDef))
+            for node in ast.walk(tree):
+                if isinstance(node, ast.arg):
+                    self.assertNotIn(node.arg, taken, path.name)
+                if isinstance(node, ast.Name) and isinstance(node.ctx, ast.Store):
+                    self.assertNotIn(node.id, taken, path.name)
+
+    def test_sets_views_and_the_like_are_used_on_the_spot(self):
+        iterating = ("list", "tuple", "dict", "sorted", "sum", "any", "all", "enumerate", "zip")
+        for path in package_files():
+            tree = tree_of(path)
+            around = {inner: node for node in ast.walk(tree) for inner in ast.iter_child_nodes(node)}
+            for node in ast.walk(tree):
+                name, method = self.called(node)
+                if name is None and method is None:
+                    continue
+                outer = around[node]
+                place = f"{path.name}:{node.lineno}"
+                self.assertNotIn(name, ("reversed", "iter", "next", "map", "frozenset", "dict"), place)
+                self.assertNotIn(method, ("sort", "add", "discard"), place)
+                if name == "set":
+                    self.assertIn(self.called(outer)[0], ("len", "sorted"), place)
+                if name in ("range", "zip", "enumerate") or method in ("items", "values", "keys"):
+                    is_iterated = isinstance(outer, (ast.For, ast.comprehension)) and outer.iter is node
+                    self.assertTrue(is_iterated or self.called(outer)[0] in iterating, place)
+
+    def called(self, node):
+        """Return the name of the function and that of the method which are called by a node, or None."""
+        if not isinstance(node, ast.Call):
+            return None, None
+        if isinstance(node.func, ast.Attribute):
+            return None, node.func.attr
+        return node.func.id, None
+
+    def test_what_operators_run_changes_nothing(self):
+        # The functions and classes that the operators call, and those that these call: they assign no attribute but of
+        # a new object, and call no method that modifies something.
+        functions, classes, waiting = {}, {}, []
+        for path in package_files():
+            for node in tree_of(path).body:
+                if isinstance(node, ast.FunctionDef):
+                    functions[node.name] = node
+                if isinstance(node, ast.ClassDef):
+                    methods = {part.name: part for part in node.body if isinstance(part, ast.FunctionDef)}
+                    classes[node.name] = methods.get("__init__")
+                    waiting += [part for name, part in methods.items() if name[:2] == "__" and name != "__init__"]
+        passed = []
+        while waiting:
+            node = waiting.pop()
+            passed.append(node)
+            for part in ast.walk(node):
+                self.assertNotIsInstance(part, (ast.AugAssign, ast.Delete), node.name)
+                if isinstance(part, ast.Attribute) and isinstance(part.ctx, ast.Store):
+                    self.assertEqual(node.name, "__init__")
+                name, method = self.called(part)
+                self.assertIn(method, (None, "items", "values", "get"), node.name)
+                found = functions.get(name) or classes.get(name)
+                if found is not None and found not in passed:
+                    waiting.append(found)
+        self.assertGreater(len(passed), 15)

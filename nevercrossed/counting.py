@@ -1,10 +1,10 @@
 """Plans of one line: how many, numbered, and found by number; and the plans of each number of lines."""
 
-from nevercrossed.errors import InvalidColor, InvalidNumber, NotOneLine, TooLarge
+from nevercrossed.errors import InvalidNumber, TooLarge
 from nevercrossed.ground import ground_of
-from nevercrossed.plans import OTHER_WORDS, Plan
-from nevercrossed.regions import is_color
-from nevercrossed.rounds import ground_of_plan, is_one_line, joined_and_parted
+from nevercrossed.plans import Plan
+from nevercrossed.regions import check_color
+from nevercrossed.spanning import checked_halves, connecting_word, ground_of_plan
 from nevercrossed.trees import trees_of
 from nevercrossed.words import is_integer
 
@@ -14,17 +14,14 @@ MOST_DIVIDED = 12
 
 def count(figure, *, color="dark"):
     """Return the number of the plans of one line of an even figure of one piece."""
-    ground = ground_of(figure)
-    _check_size(ground, MOST_COUNTED)
-    if not is_color(color):
-        raise InvalidColor(color)
+    ground = counted_ground(figure)
+    check_color(color)
     return _all_trees(ground, color).total
 
 
 def nth_plan(figure, n):
     """Return the plan of one line with the index n."""
-    ground = ground_of(figure)
-    _check_size(ground, MOST_COUNTED)
+    ground = counted_ground(figure)
     color = _color_of_fewer_regions(ground)
     trees = _all_trees(ground, color)
     if not is_integer(n) or not 0 <= n < trees.total:
@@ -43,9 +40,7 @@ def number_of(plan):
     """Return the index of a plan of one line."""
     ground = ground_of_plan(plan)
     _check_size(ground, MOST_COUNTED)
-    joined, _ = joined_and_parted(ground, plan)
-    if not is_one_line(ground, joined):
-        raise NotOneLine(plan)
+    checked_halves(ground, plan)
     color = _color_of_fewer_regions(ground)
     trees = _all_trees(ground, color)
     number = 0
@@ -82,6 +77,13 @@ def counts_by_lines(figure):
     return {lines: total[lines] for lines in sorted(total)}
 
 
+def counted_ground(figure):
+    """Return the ground of a figure whose plans are counted. Raise what Regions raises, or TooLarge."""
+    ground = ground_of(figure)
+    _check_size(ground, MOST_COUNTED)
+    return ground
+
+
 def _check_size(ground, most):
     if len(ground.knots) > most:
         raise TooLarge(len(ground.knots))
@@ -97,21 +99,15 @@ def _all_trees(ground, color):
     return ground.trees[color]
 
 
-def _connecting_word(ground, color, place):
-    """Return the word that connects the two squares of a color at a point."""
-    joining = ground.joins[place]
-    return joining if color == "dark" else OTHER_WORDS[joining]
-
-
 def _many_with_ru(ground, color, place, trees):
     one, other = ground.pairs[color][place]
     many = trees.many_with(one, other)
-    return many if _connecting_word(ground, color, place) == "ru" else trees.total - many
+    return many if connecting_word(ground, color, place) == "ru" else trees.total - many
 
 
 def _with_word(ground, color, place, trees, word):
     one, other = ground.pairs[color][place]
-    if _connecting_word(ground, color, place) == word:
+    if connecting_word(ground, color, place) == word:
         return trees.only_with(one, other)
     return trees.only_without(one, other)
 

@@ -6,6 +6,8 @@ class NevercrossedError(ValueError):
 
     def __init__(self, value):
         self.value = value
+        # For those who answer with the name of what was raised.
+        self.name = self.__class__.__name__
 
 
 class InvalidNumber(NevercrossedError):

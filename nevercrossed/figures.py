@@ -112,6 +112,14 @@ def forks_of(figure):
     return figure._forks
 
 
+def is_crossing(figure, value):
+    """Tell whether any value is a point of degree 4 of a figure."""
+    if not is_point(value):
+        return False
+    x, y = value
+    return letters_of(figure).get(SIDE * x + y, "") == "ruld"
+
+
 def check_even(figure):
     """Raise NotEven with the least odd point of a figure, if there is one."""
     for number, ways in letters_of(figure).items():
@@ -129,6 +137,18 @@ def numbered_figure(numbers):
 def part_of(figure, numbers):
     """Return the figure of some of the edges of a figure, given by their numbers, ascending."""
     return Figure(Held({number: figure._held[number] for number in numbers}))
+
+
+def figure_with(figure, numbers):
+    """Return a figure with the edges with some more numbers, or the same one if it has them all. Raise TooLarge."""
+    more = {number: numbered_edge(number) for number in numbers if number not in figure._held}
+    return Figure(Held(_ascending({**figure._held, **more}))) if more else figure
+
+
+def figure_without(figure, numbers):
+    """Return a figure without the edges with some numbers, or the same one if it has none of them."""
+    gone = {number: True for number in numbers if number in figure._held}
+    return Figure(Held(_left_over(figure._held, gone))) if gone else figure
 
 
 def _checked(edges):

@@ -29,6 +29,8 @@ class Ground:
         self.places = {point: place for place, point in enumerate(self.knots)}
         # The spanning trees of the graph of each color, by those who count them first.
         self.trees = {}
+        # Forests that have no point in common, by those who ask for plans that spread.
+        self.apart = {}
 
 
 def ground_of(figure):

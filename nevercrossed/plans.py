@@ -1,7 +1,9 @@
 """Plans: the edges of a figure paired at its points, so that they make lines that never cross."""
 
-from nevercrossed.errors import InvalidDirection, InvalidFigure, InvalidPoint, InvalidPoints, InvalidTurns
-from nevercrossed.figures import Figure, forks_of, held_by, letters_of
+from nevercrossed.errors import (
+    InvalidDirection, InvalidFigure, InvalidPlan, InvalidPoint, InvalidPoints, InvalidTurns,
+)
+from nevercrossed.figures import Figure, forks_of, held_by, is_crossing, letters_of
 from nevercrossed.grid import DIRECTIONS, PARTNERS, SIDE, STRIDES
 from nevercrossed.words import is_direction, is_point
 
@@ -38,8 +40,9 @@ class Plan:
 
     def turned(self, points):
         """Return the plan with the other word at each of some points of degree 4."""
+        check_crossings(self.figure, points)
         turns = self.turns()
-        for point in _checked_crossings(points, forks_of(self.figure)):
+        for point in points:
             turns[point] = OTHER_WORDS[turns[point]]
         return Plan(self.figure, turns)
 
@@ -57,7 +60,7 @@ class Plan:
     def lines(self):
         """Return the tuple of the lines as walks, each in its least way of writing, ascending."""
         if self._lines is None:
-            self._lines = _lines_of(self.figure, self._turns)
+            self._lines = _lines_of(self)
         return self._lines
 
     def __len__(self):
@@ -78,6 +81,31 @@ class Plan:
         return isinstance(other, Plan) and self.figure == other.figure and self._turns == other._turns
 
 
+def check_plan(value):
+    """Raise InvalidPlan if any value is not a Plan."""
+    if not isinstance(value, Plan):
+        raise InvalidPlan(value)
+
+
+def check_crossings(figure, value):
+    """Raise InvalidPoints if any value is not a list of different points of degree 4 of a figure."""
+    if not isinstance(value, (list, tuple)) or not all([is_crossing(figure, point) for point in value]):
+        raise InvalidPoints(value)
+    if len(set(value)) != len(value):
+        raise InvalidPoints(value)
+
+
+def partners_of(plan):
+    """Return a new dict from the number of each point to how the edges there are paired, as PARTNERS writes it."""
+    letters = letters_of(plan.figure)
+    partners = {number: PARTNERS.get(ways) for number, ways in letters.items()}
+    for point, word in plan._turns.items():
+        x, y = point
+        number = SIDE * x + y
+        partners[number] = PARTNERS[letters[number] + word]
+    return partners
+
+
 def _are_turns(value, forks):
     if not isinstance(value, dict) or len(value) != len(forks):
         return False
@@ -95,28 +123,13 @@ def _is_way(value, ways):
     return is_direction(value) and value in ways
 
 
-def _checked_crossings(value, forks):
-    if not isinstance(value, (list, tuple)):
-        raise InvalidPoints(value)
-    passed = {}
-    for point in value:
-        if not is_point(point) or len(forks.get(point, "")) != 4 or point in passed:
-            raise InvalidPoints(value)
-        passed[point] = True
-    return value
-
-
-def _lines_of(figure, turns):
-    letters = letters_of(figure)
-    partners = {number: PARTNERS.get(ways) for number, ways in letters.items()}
-    for point, word in turns.items():
-        x, y = point
-        number = SIDE * x + y
-        partners[number] = PARTNERS[letters[number] + word]
+def _lines_of(plan):
+    letters = letters_of(plan.figure)
+    partners = partners_of(plan)
     # The upright edges that are on a line already, by the number of the lower end: each closed line has some.
     passed = {}
-    found = _lines_with_ends(letters, turns, partners, passed)
-    for number in held_by(figure):
+    found = _lines_with_ends(letters, plan._turns, partners, passed)
+    for number in held_by(plan.figure):
         if number % 2 == 0 and number // 2 not in passed:
             # The first edge of a closed line that is met goes up from the least point of the line.
             found.append(_traced(number // 2, 1, partners, passed))

@@ -33,8 +33,7 @@ class Regions:
 
     def between(self, color, point):
         """Return the numbers of the two regions of a color at a point of degree 4, the lesser one first."""
-        if not is_color(color):
-            raise InvalidColor(color)
+        check_color(color)
         return self._ground.pairs[color][self._place(point)]
 
     def joining(self, point):
@@ -50,6 +49,12 @@ class Regions:
 def is_color(value):
     """Tell whether any value is a color."""
     return value in ("dark", "light")
+
+
+def check_color(value):
+    """Raise InvalidColor if any value is not a color."""
+    if not is_color(value):
+        raise InvalidColor(value)
 
 
 def _cells_by_region(ground):

@@ -4,9 +4,12 @@ import itertools
 import random
 
 from nevercrossed.cells import border
+from nevercrossed.counting import count
 from nevercrossed.fewest import pieces
 from nevercrossed.figures import Figure
 from nevercrossed.plans import Plan
+from nevercrossed.regions import Regions
+from nevercrossed.rounds import mended
 
 ALL_EDGES = sorted(
     [((x, y), (x + 1, y)) for x in range(30) for y in range(31)]
@@ -71,9 +74,43 @@ def single_figures(many=60, size=6, crossings=99):
     return [figure for figure in found if len(crossings_of(figure)) <= crossings][:many]
 
 
+def rich_figures(many=30, crossings=8):
+    """Return even figures of one piece, with at most so many points of degree 4 and more than one plan of one line."""
+    chance = random.Random(crossings)
+    found = [RING]
+    while len(found) < many:
+        width, height = chance.randint(3, 5), chance.randint(3, 6)
+        squares = [(x, y) for x in range(width) for y in range(height)]
+        cells = [(x, y) for x, y in squares if chance.random() < (0.85 if (x + y) % 2 else 0.15)]
+        figure = max(pieces(border(cells)), key=len, default=SQUARE)
+        if 3 <= len(crossings_of(figure)) <= crossings and count(figure) > 1:
+            found.append(figure.shifted(0, 3))
+    return found
+
+
+def balanced_figures(many=40, crossings=8, size=5):
+    """Return even figures of one piece with points of degree 4 and as many dark regions as light ones."""
+    chance = random.Random(crossings)
+    found = []
+    while len(found) < many:
+        squares = [(x, y) for x in range(chance.randint(3, size)) for y in range(chance.randint(3, size))]
+        cells = [(x, y) for x, y in squares if chance.random() < (0.9 if (x + y) % 2 else 0.4)]
+        figure = max(pieces(border(cells)), key=len, default=SQUARE)
+        if 2 <= len(crossings_of(figure)) <= crossings:
+            regions = Regions(figure)
+            if len(regions.dark) == len(regions.light):
+                found.append(figure)
+    return found
+
+
 def checkered(width, height):
     """Return the border of the cells of one color of a chessboard: an even figure of one piece."""
     return border([(x, y) for x in range(width) for y in range(height) if (x + y) % 2 == 0])
+
+
+def diagonal(crossings):
+    """Return the border of cells one corner after the other: exactly one plan is one line."""
+    return border([(place, place) for place in range(crossings + 1)])
 
 
 def degree_points(figure, degree):
@@ -96,6 +133,18 @@ def random_plan(figure, seed):
     turns = {point: chance.choice(figure.directions(point)) for point in degree_points(figure, 3)}
     turns.update({point: chance.choice(("ru", "rd")) for point in crossings_of(figure)})
     return Plan(figure, turns)
+
+
+def one_lines(figure):
+    """Return the plans of one line, in the order of the document."""
+    plans = [plan for plan in all_plans(figure) if len(plan.lines()) == 1]
+    return sorted(plans, key=lambda plan: [plan[point] == "rd" for point in crossings_of(figure)])
+
+
+def one_line_plan(figure, seed):
+    """Return some plan of one line of a figure of any size."""
+    plan = random_plan(figure, seed)
+    return plan.turned(mended(plan))
 
 
 def stepped(point, direction):
@@ -188,3 +237,34 @@ def regions_by_hand(figure):
 def is_dark_by_hand(figure, cell):
     x, y = cell
     return len([left for left in range(x + 1) if ((left, y), (left, y + 1)) in figure.edges]) % 2 == 1
+
+
+def joined_points(plan):
+    regions = Regions(plan.figure)
+    return [point for point in regions.crossings() if plan[point] == regions.joining(point)]
+
+
+def parted_points(plan):
+    regions = Regions(plan.figure)
+    return [point for point in regions.crossings() if plan[point] != regions.joining(point)]
+
+
+def all_rounds(figure, color):
+    """Return all rounds of a color, in all ways of writing them, as a dict."""
+    regions = Regions(figure)
+    pairs = {point: regions.between(color, point) for point in regions.crossings()}
+    found = {}
+
+    def go_on(numbers, points):
+        for point, pair in pairs.items():
+            if point in points or numbers[-1] not in pair:
+                continue
+            other = pair[0] + pair[1] - numbers[-1]
+            if other == numbers[0]:
+                found[(color, tuple(numbers), tuple(points + [point]))] = True
+            elif other not in numbers:
+                go_on(numbers + [other], points + [point])
+
+    for start in range(len(regions.dark if color == "dark" else regions.light)):
+        go_on([start], [])
+    return found

@@ -14,19 +14,9 @@ from nevercrossed.regions import Regions
 from nevercrossed.texts import read_picture
 from tests.helper import Case, any_values
 from tests.samples import (
-    ALL_CELLS, BOTH, CHAIN, RING, SQUARE, WITHIN, all_plans, checkered, crossings_of, random_plan, single_figures,
+    ALL_CELLS, BOTH, CHAIN, RING, SQUARE, WITHIN, all_plans, checkered, crossings_of, diagonal, one_lines, random_plan,
+    single_figures,
 )
-
-
-def diagonal(crossings):
-    """Return the border of cells one corner after the other: exactly one plan is one line."""
-    return border([(place, place) for place in range(crossings + 1)])
-
-
-def one_lines(figure):
-    """Return the plans of one line, in the order of the document."""
-    plans = [plan for plan in all_plans(figure) if len(plan.lines()) == 1]
-    return sorted(plans, key=lambda plan: [plan[point] == "rd" for point in crossings_of(figure)])
 
 
 def spanning_trees_by_hand(figure, color):

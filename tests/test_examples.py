@@ -3,7 +3,10 @@
 import doctest
 import unittest
 
-from nevercrossed import cells, counting, fewest, figures, plans, regions, rounds, texts, words
+from nevercrossed import (
+    books, cells, consoles, counting, drawing, fewest, figures, plans, prices, regions, rounds, spreads, texts, ways,
+    wishes, words,
+)
 
 EXAMPLES = {
     "[12]": r'''
@@ -51,11 +54,59 @@ EXAMPLES = {
     >>> [count(ring), count(ring, color="light"), number_of(nth_plan(ring, 2)), counts_by_lines(ring) == {1: 4, 2: 7, 3: 4, 4: 1}]
     [4, 4, 2, True]
 ''',
+    "[102]": r'''
+    >>> chain = border([(0, 0), (1, 1), (2, 0)])
+    >>> line_numbers(Plan(chain, {(1, 1): "ru", (2, 1): "ru"}), [(1, 1), (2, 1), (2, 1)])
+    (2, 1, 2, 1)
+''',
+    "[112]": r'''
+    >>> both = border([(0, 0), (1, 1)])
+    >>> [wished(both, {}).turns(), wished(both, {(1, 1): "ru"}), shows_none(both, {}, ("light", (0,), ((1, 1),)))]
+    [{(1, 1): 'rd'}, ('light', (0,), ((1, 1),)), False]
+''',
+    "[114]": r'''
+    >>> drawn(Plan(read_picture("+-+\n  |\n  +"), {}))
+    (((2, 8), (6, 8), (8, 6), (8, 2)),)
+    >>> read_drawn(drawn(Plan(border([(0, 0)]), {}))).figure == border([(0, 0)])
+    True
+''',
+    "[123]": r'''
+    >>> book = Book()
+    >>> book.together([("put", ((0, 0), (1, 0), (1, 1), (0, 1), (0, 0))), ("put", ((1, 1), (2, 1), (2, 2), (1, 2), (1, 1))), ("wish", (1, 1), "ru")])
+    >>> [book.changes, book.wishes(), book.answer()]
+    [1, {(1, 1): 'ru'}, ('light', (0,), ((1, 1),))]
+''',
+    "[132]": r'''
+    >>> console = Console(Book())
+    >>> [console("put 0 0 ruld"), console("put 1 1 ruld"), console("show"), console("count"), console("answer")]
+    ['ok', 'ok', '  +-+/  | |/+-+-+/| |/+-+', '1', 'line 0,0 ururdldl']
+    >>> [console("wish 1 1 ru"), console("answer"), console("wish 0 0 ru"), console("undo"), console("plan 0")]
+    ['ok', 'round light 1,1', 'error InvalidPoint', 'ok', '0,0 ururdldl']
+''',
+    "[143]": r'''
+    >>> ring = border([(1, 0), (2, 1), (1, 2), (0, 1)])
+    >>> prices = {(1, 1): (0, 1), (1, 2): (5, 0), (2, 1): (3, 0), (2, 2): (0, 2)}
+    >>> plan = cheapest(ring, prices)
+    >>> [price_of(plan, prices), plan.turns()[(2, 1)], cheaper(plan, prices)]
+    [1, 'rd', None]
+''',
+    "[154]": r'''
+    >>> ring = border([(1, 0), (2, 1), (1, 2), (0, 1)])
+    >>> [spread_bound(ring, [], 2), spread_bound(ring, spread_paper(ring, 1), 1), spread_bound(ring, [(1, 1)], 3, color="light")]
+    [4, 3, 6]
+    >>> [len(spread(ring, 2)), opposite(ring)[0], fixed_words(ring), fixed_words(border([(0, 0), (1, 1)]))]
+    [2, 'light', {}, {(1, 1): 'rd'}]
+''',
 }
 # All names of the package, as if each example began by importing those that it needs.
 NAMES = {}
-for module in (words, figures, texts, plans, fewest, cells, regions, rounds, counting):
+for module in (
+    words, figures, texts, plans, fewest, cells, regions, rounds, counting, ways, wishes, drawing, books, consoles,
+    prices, spreads,
+):
     NAMES.update({name: thing for name, thing in vars(module).items() if not name.startswith("_")})
+# Two functions have this name: only the first example means that of words.py.
+FIRST_NAMES = {**NAMES, "opposite": words.opposite}
 
 
 class TestExamples(unittest.TestCase):
@@ -63,7 +114,8 @@ class TestExamples(unittest.TestCase):
         for place, text in EXAMPLES.items():
             with self.subTest(place):
                 told = []
-                example = doctest.DocTestParser().get_doctest(text, dict(NAMES), place, None, None)
+                names = dict(FIRST_NAMES if place == "[12]" else NAMES)
+                example = doctest.DocTestParser().get_doctest(text, names, place, None, None)
                 result = doctest.DocTestRunner(verbose=False).run(example, out=told.append)
                 self.assertEqual(result.failed, 0, "".join(told))
                 self.assertEqual(result.attempted, text.count(">>>"))

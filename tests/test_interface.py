@@ -6,7 +6,10 @@ import inspect
 import pathlib
 import unittest
 
-from nevercrossed import cells, counting, errors, fewest, figures, plans, regions, rounds, texts, words
+from nevercrossed import (
+    books, cells, consoles, counting, drawing, errors, fewest, figures, plans, prices, regions, rounds, spreads, texts,
+    ways, wishes, words,
+)
 
 PACKAGE = pathlib.Path(errors.__file__).parent
 
@@ -29,6 +32,19 @@ FUNCTIONS = {
         "count": ["figure", "color"], "nth_plan": ["figure", "n"], "number_of": ["plan"],
         "counts_by_lines": ["figure"],
     },
+    ways: {"way": ["plan", "other"], "line_numbers": ["plan", "points"]},
+    wishes: {
+        "wished": ["figure", "wishes"], "shows_none": ["figure", "wishes", "thing"], "fulfils": ["plan", "wishes"],
+    },
+    drawing: {"drawn": ["plan"], "read_drawn": ["paths"]},
+    prices: {
+        "price_of": ["plan", "prices"], "cheapest": ["figure", "prices"], "cheaper": ["plan", "prices"],
+        "why_cheapest": ["plan", "prices"], "shows_cheapest": ["plan", "prices", "thing"],
+    },
+    spreads: {
+        "spread": ["figure", "k", "color"], "spread_bound": ["figure", "points", "k", "color"],
+        "spread_paper": ["figure", "k", "color"], "opposite": ["figure"], "fixed_words": ["figure"],
+    },
 }
 # The operators are listed by their signs; here they have the names of their methods.
 METHODS = {
@@ -46,8 +62,15 @@ METHODS = {
         "__init__": ["figure"], "find": ["cell"], "crossings": [], "between": ["color", "point"],
         "joining": ["point"],
     },
+    books.Book: {
+        "__init__": [], "wishes": [], "put": ["walk"], "rub": ["walk"], "wish": ["point", "word"], "undo": [],
+        "together": ["deeds"], "answer": [],
+    },
+    consoles.Console: {"__init__": ["book"], "__call__": ["line"]},
     errors.NevercrossedError: {"__init__": ["value"]},
 }
+# Their last parameter is passed by name only.
+WITH_A_COLOR = (counting.count, spreads.spread, spreads.spread_bound, spreads.spread_paper)
 BARRED_WORDS = (
     "type typing typing_extensions enum Enum IntEnum StrEnum Flag IntFlag Generic Protocol ABC ABCMeta namedtuple "
     "NamedTuple TypedDict TYPE_CHECKING abstractmethod register mro elements open input law".split()
@@ -99,18 +122,27 @@ class TestInterface(unittest.TestCase):
         self.assertEqual(inspect.signature(figures.Figure).parameters["edges"].default, ())
 
     def test_classes_are_defined_in_their_files(self):
-        for module, name in ((figures, "Figure"), (plans, "Plan"), (regions, "Regions")):
-            self.assertIn(name, defined_in(pathlib.Path(module.__file__)))
+        for owner in METHODS:
+            self.assertIn(owner.__name__, defined_in(pathlib.Path(inspect.getmodule(owner).__file__)))
 
     def test_the_color_is_passed_by_name(self):
-        color = inspect.signature(counting.count).parameters["color"]
-        self.assertEqual([color.kind, color.default], [inspect.Parameter.KEYWORD_ONLY, "dark"])
+        for module, listed in FUNCTIONS.items():
+            for name in listed:
+                function = getattr(module, name)
+                kinds = {inspect.Parameter.POSITIONAL_OR_KEYWORD: [], inspect.Parameter.KEYWORD_ONLY: []}
+                for parameter in inspect.signature(function).parameters.values():
+                    kinds[parameter.kind].append((parameter.name, parameter.default))
+                expected = [("color", "dark")] if function in WITH_A_COLOR else []
+                self.assertEqual(kinds[inspect.Parameter.KEYWORD_ONLY], expected)
+                for _, default in kinds[inspect.Parameter.POSITIONAL_OR_KEYWORD]:
+                    self.assertIs(default, inspect.Parameter.empty)
 
     def test_attributes_are_set_when_the_object_is_created(self):
         square = cells.border([(0, 0)])
         self.assertIn("figure", vars(plans.Plan(square, {})))
         self.assertLessEqual({"dark", "light"}, set(vars(regions.Regions(square))))
         self.assertIn("edges", vars(figures.Figure()))
+        self.assertLessEqual({"figure", "changes"}, set(vars(books.Book())))
         self.assertIn("value", vars(errors.InvalidPoint(None)))
 
 
@@ -230,6 +262,9 @@ class TestFiles(unittest.TestCase):
             return None, node.func.attr
         return node.func.id, None
 
+    def is_operator(self, name):
+        return name[:2] == "__" and name not in ("__init__", "__call__")
+
     def test_what_operators_run_changes_nothing(self):
         # The functions and classes that the operators call, and those that these call: they assign no attribute but of
         # a new object, and call no method that modifies something.
@@ -241,7 +276,7 @@ class TestFiles(unittest.TestCase):
                 if isinstance(node, ast.ClassDef):
                     methods = {part.name: part for part in node.body if isinstance(part, ast.FunctionDef)}
                     classes[node.name] = methods.get("__init__")
-                    waiting += [part for name, part in methods.items() if name[:2] == "__" and name != "__init__"]
+                    waiting += [part for name, part in methods.items() if self.is_operator(name)]
         passed = []
         while waiting:
             node = waiting.pop()

@@ -5,7 +5,6 @@ from nevercrossed.errors import InvalidCells, InvalidColor, InvalidFigure, Inval
 from nevercrossed.fewest import pieces
 from nevercrossed.figures import Figure
 from nevercrossed.regions import Regions
-from nevercrossed.texts import read_picture
 from tests.helper import Case, any_values
 from tests.samples import (
     ALL_CELLS, BOTH, HOLE, RING, SQUARE, WITHIN, any_figures, checkered, crossings_of, even_figures, is_dark_by_hand,

@@ -12,21 +12,11 @@ from nevercrossed.rounds import is_round, mended, round_numbers, shows_not, why_
 from nevercrossed.texts import read_picture
 from tests.helper import Case, any_values
 from tests.samples import (
-    BOTH, CHAIN, RING, SQUARE, WITHIN, all_plans, any_figures, checkered, even_figures, parts_by_hand, random_plan,
-    single_figures,
+    BOTH, CHAIN, RING, SQUARE, WITHIN, all_plans, all_rounds, any_figures, checkered, even_figures, joined_points,
+    parted_points, parts_by_hand, random_plan, single_figures,
 )
 
 POINTS = ((1, 1), (1, 2), (2, 1), (2, 2))
-
-
-def joined_points(plan):
-    regions = Regions(plan.figure)
-    return [point for point in regions.crossings() if plan[point] == regions.joining(point)]
-
-
-def parted_points(plan):
-    regions = Regions(plan.figure)
-    return [point for point in regions.crossings() if plan[point] != regions.joining(point)]
 
 
 def independent_by_hand(figure, color, points):
@@ -35,27 +25,6 @@ def independent_by_hand(figure, color, points):
     nodes = range(len(regions.dark if color == "dark" else regions.light))
     pairs = [regions.between(color, point) for point in points]
     return len(pairs) - len(nodes) + parts_by_hand(nodes, pairs)
-
-
-def all_rounds(figure, color):
-    """Return all rounds of a color, in all ways of writing them, as a dict."""
-    regions = Regions(figure)
-    pairs = {point: regions.between(color, point) for point in regions.crossings()}
-    found = {}
-
-    def go_on(numbers, points):
-        for point, pair in pairs.items():
-            if point in points or numbers[-1] not in pair:
-                continue
-            other = pair[0] + pair[1] - numbers[-1]
-            if other == numbers[0]:
-                found[(color, tuple(numbers), tuple(points + [point]))] = True
-            elif other not in numbers:
-                go_on(numbers + [other], points + [point])
-
-    for start in range(len(regions.dark if color == "dark" else regions.light)):
-        go_on([start], [])
-    return found
 
 
 class TestIsRound(Case):
